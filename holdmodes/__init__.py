@@ -1,0 +1,1 @@
+"""Modes of holding, drawn from what may be done side by side."""

@@ -1,0 +1,92 @@
+"""What the tests draw on: rules, lots and modes, made here from the words of
+the document and without the package, and values of every other kind."""
+
+import itertools
+import random
+
+from holdmodes import errors
+
+R = (3, ((0, 0), (2, 2)))
+S = ((0,), (0,))
+X = ((1,), (1,))
+I = ((), (1,))
+
+
+def act_pairs(acts):
+    """All pairs (i, j), i <= j, of so many acts, ascending."""
+    return [(i, j) for i in range(acts) for j in range(i, acts)]
+
+
+def subsets(items):
+    """All tuples of some of the items, in their order."""
+    items = list(items)
+    return [chosen for many in range(len(items) + 1) for chosen in itertools.combinations(items, many)]
+
+
+def all_rules(acts):
+    return [(acts, beside) for beside in subsets(act_pairs(acts))]
+
+
+def all_lots(acts):
+    return subsets(range(acts))
+
+
+def all_modes(acts):
+    return [(own, means) for means in all_lots(acts) for own in subsets(means)]
+
+
+def drawn_rules(seed, many):
+    """So many rules of one to six acts, each number of acts as often as the others."""
+    draw = random.Random(seed)
+    drawn = []
+    for k in range(many):
+        acts = k % 6 + 1
+        chance = draw.random()
+        drawn.append((acts, tuple(pair for pair in act_pairs(acts) if draw.random() < chance)))
+    return drawn
+
+
+def drawn_mode(draw, acts):
+    kinds = [draw.randrange(3) for _ in range(acts)]
+    own = tuple(act for act in range(acts) if kinds[act] == 2)
+    return own, tuple(act for act in range(acts) if kinds[act] > 0)
+
+
+def may_beside(rules, act, other):
+    """Whether two holders may do the acts side by side, as the table says."""
+    return any(sorted(pair) == sorted((act, other)) for pair in rules[1])
+
+
+def package_objects():
+    """Objects of classes of the package."""
+    return [
+        errors.HoldError(), errors.BadMode(S), errors.BadText(0), errors.BadYard("rules", "acts"),
+        errors.Barred(0, 1), errors.Full(), errors.NothingToUndo(), errors.NoAct(6),
+        errors.NoHold(0), errors.NoHolder(4), errors.NoThing(12),
+    ]
+
+
+def nested(depth, wrap):
+    value = 0
+    for _ in range(depth):
+        value = wrap(value)
+    return value
+
+
+def odd_values():
+    """Values of every kind that are neither rules nor a mode, a lot, a pair of acts, or an act."""
+    return [
+        None, True, False, -1, 7, 10 ** 39, -10 ** 39, "", "0", "ab", "rules", "\n", "x" * 2000,
+        [], [0], [0, 1], [[], []], [(0,), (0,)], [1, ()], [3, ((0, 0),)],
+        {}, {0: 1}, {0: (), 1: ()}, {"own": (), "means": ()},
+        ((),), ((), (), ()), (((), ()), ((), ())), (None, None), ("", ""), ("0", "0"), ({}, {}), ([], []),
+        (True, True), (-1, -1), (7, 7), (0.5, 0.5), b"ab",
+        nested(12, lambda value: (value, value) if value == 0 else (value,)), nested(12, lambda value: [value]),
+        nested(12, lambda value: {"a": value}), tuple(range(10000)), ((0,),) * 10000, ((0, 0),) * 5000,
+        ("x",) * 10000, list(range(10000)),
+    ] + package_objects() + [(thing, ()) for thing in package_objects()] + [((), thing) for thing in package_objects()]
+
+
+def is_odd_act(value):
+    """Whether value, one of odd_values, is an act of no rules."""
+    return not (type(value) is int and 0 <= value < 6)
