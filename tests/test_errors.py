@@ -61,7 +61,7 @@ class Fields(unittest.TestCase):
                     self.assertIs(given, getattr(error, field), (name, field))
 
     def test_an_error_changes_no_argument(self):
-        for name, fields in FIELDS.items():
+        for name in FIELDS:
             rows = [[1, [2]], {"a": [3]}]
             made(name, rows)
             self.assertEqual([[1, [2]], {"a": [3]}], rows, name)
