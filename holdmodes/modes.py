@@ -1,7 +1,7 @@
 """Modes: what a holder may do, and may come to do, on a thing and within it."""
 
 from holdmodes.forms import is_pair
-from holdmodes.rules import against, is_lot
+from holdmodes.rules import against, has_all, is_lot, lot_of
 
 
 def is_mode(rules, value):
@@ -20,7 +20,7 @@ def covers(one, other):
 
 def joined(one, other):
     """The mode that has what the one or the other has."""
-    return merged(one[0], other[0]), merged(one[1], other[1])
+    return lot_of(one[0] + other[0]), lot_of(one[1] + other[1])
 
 
 def goes(rules, one, other):
@@ -31,13 +31,3 @@ def goes(rules, one, other):
 def hinders(rules, one, other):
     """Whether an act of one's own is against an act of other's means."""
     return any([act in other[1] for act in against(rules, one[0])])
-
-
-def has_all(lot, other):
-    """Whether all acts of the other lot stand in the lot."""
-    return all([act in lot for act in other])
-
-
-def merged(lot, other):
-    """The lot of the acts of both lots."""
-    return tuple(sorted(set(lot) | set(other)))

@@ -1,5 +1,5 @@
-"""What the tests draw on: rules, lots and modes, made here from the words of
-the document and without the package, and values of every other kind."""
+"""What the tests draw on: rules, modes, trees, holds and plans, made here from the
+words of the document and without the package, and values of every other kind."""
 
 import itertools
 import random
@@ -10,6 +10,7 @@ R = (3, ((0, 0), (2, 2)))
 S = ((0,), (0,))
 X = ((1,), (1,))
 I = ((), (1,))
+T = (None, 0, 0, 1)
 
 
 def act_pairs(acts):
@@ -54,7 +55,7 @@ def drawn_mode(draw, acts):
 
 def may_beside(rules, act, other):
     """Whether two holders may do the acts side by side, as the table says."""
-    return any(sorted(pair) == sorted((act, other)) for pair in rules[1])
+    return (act, other) in rules[1] or (other, act) in rules[1]
 
 
 def package_objects():
@@ -90,3 +91,72 @@ def odd_values():
 def is_odd_act(value):
     """Whether value, one of odd_values, is an act of no rules."""
     return not (type(value) is int and 0 <= value < 6)
+
+
+def all_trees(many):
+    """All trees of so many things."""
+    return [(None,) + parents for parents in itertools.product(*[range(thing) for thing in range(1, many)])]
+
+
+def drawn_tree(draw, many):
+    """A tree of so many things: a path, a star or of any shape."""
+    shape = draw.randrange(6)
+    if shape == 0:
+        return (None,) + tuple(range(many - 1))
+    if shape == 1:
+        return (None,) + (0,) * (many - 1)
+    return (None,) + tuple(draw.randrange(thing) for thing in range(1, many))
+
+
+def drawn_trees(seed, many):
+    """So many trees of one to twelve things, each number of things as often as the others."""
+    draw = random.Random(seed)
+    return [drawn_tree(draw, k % 12 + 1) for k in range(many)]
+
+
+def drawn_modes(draw, acts, most):
+    """One to most unlike modes of so many acts, in any order."""
+    found = {drawn_mode(draw, acts) for _ in range(draw.randint(1, most))}
+    modes = sorted(found)
+    draw.shuffle(modes)
+    return tuple(modes)
+
+
+def drawn_plan(draw, tree, acts, most=20):
+    """A plan of at most so many pairs."""
+    pairs = [(thing, act) for thing in range(len(tree)) for act in range(acts)]
+    return tuple(sorted(draw.sample(pairs, min(len(pairs), draw.randint(1, most)))))
+
+
+def drawn_holds(draw, tree, acts, holders=4):
+    """Holds of any modes on any things."""
+    chance = draw.random()
+    return tuple((holder, thing, drawn_mode(draw, acts)) for holder in range(holders) for thing in range(len(tree))
+                 if draw.random() < chance)
+
+
+def changed(value):
+    """Values that are like this one, but for one part: it is a list, a bool, left out, doubled, or another number;
+    or two parts beside one another have changed places."""
+    if type(value) is int:
+        return [value - 1, value + 1, -1, 12, 99, None, str(value), (value,), [value], 10 ** 39,
+                bool(value)]
+    if type(value) is not tuple:
+        return [0, (), not value]
+    found = [list(value), value + (0,), value + ((),), value[:-1] + ((),), (value,), None, {}]
+    for at, part in enumerate(value):
+        ahead, behind = value[:at], value[at + 1:]
+        found += [ahead + behind, ahead + (part, part) + behind]
+        found += [ahead + (other,) + behind for other in changed(part)]
+        found += [value[:at - 1] + (part, value[at - 1]) + behind] if at > 0 else []
+    return found
+
+
+def with_odd_parts(value, odd):
+    """The values that are like this one, but with something odd in the place of one part, or put in."""
+    found = [odd]
+    if type(value) is tuple:
+        for at in range(len(value)):
+            found += [value[:at] + (part,) + value[at + 1:] for part in with_odd_parts(value[at], odd)]
+        found += [value + (odd,), (odd,) + value]
+    return found

@@ -6,26 +6,8 @@ import random
 import unittest
 
 from holdmodes.modes import covers, goes, is_mode, joined
-from tests.samples import (
-    I, R, S, X, all_modes, all_rules, drawn_mode, drawn_rules, is_odd_act, may_beside, odd_values,
-)
-
-
-def told_goes(rules, one, other):
-    """Whether the modes go, word by word."""
-    for own, means in ((one[0], other[1]), (other[0], one[1])):
-        for act, with_act in itertools.product(own, means):
-            if not may_beside(rules, act, with_act):
-                return False
-    return True
-
-
-def told_covers(one, other):
-    return set(other[0]) <= set(one[0]) and set(other[1]) <= set(one[1])
-
-
-def told_joined(one, other):
-    return tuple(tuple(act for act in range(6) if act in one[k] + other[k]) for k in (0, 1))
+from tests.samples import I, R, S, X, all_modes, all_rules, drawn_mode, drawn_rules, is_odd_act, odd_values
+from tests.told import told_covers, told_goes, told_joined
 
 
 def short_tuples(items, most):
