@@ -3,7 +3,7 @@
 import itertools
 import random
 
-from tests.samples import act_pairs, drawn_modes, drawn_rules, drawn_tree
+from tests.samples import act_pairs, drawn_mode, drawn_modes, drawn_rules, drawn_tree
 from tests.told import told_around, told_bars, told_covers, told_joined
 
 
@@ -74,3 +74,44 @@ def ring(draw, many, more=0):
     row = tuple(order.index(k) for k in range(many))
     turn = row.index(0)
     return rules, modes, raises + others[:more], row[turn:] + row[:turn]
+
+
+def drawn_courses(draw, acts, holders=4, steps=8, things=12):
+    """Courses of one to so many holders, each of one to so many steps on so many things."""
+    def step():
+        act = draw.randrange(acts)
+        mode = draw.choice((((act,), (act,)), ((), (act,)), drawn_mode(draw, acts)))
+        return draw.randrange(draw.randint(1, things)), mode
+
+    return tuple(tuple(step() for _ in range(draw.randint(1, steps))) for _ in range(draw.randint(1, holders)))
+
+
+def course_cases(seed, many, holders=4, steps=8, things=12):
+    """Rules, courses and the source of what else is drawn, so many times."""
+    draw = random.Random(seed)
+    return [(rules, drawn_courses(draw, rules[0], holders, steps, things), draw) for rules in drawn_rules(seed, many)]
+
+
+def tangled_cases(seed, many, holders=4, steps=8):
+    """Rules of two acts or more and courses of two to so many holders, who take the same few things, each in an order
+    of its own, in modes some of which go: so that the courses often get stuck."""
+    draw = random.Random(seed)
+    cases = []
+    for k in range(many):
+        acts = k % 5 + 2
+        chance = draw.choice((0.1, 0.3, 0.6))
+        rules = acts, tuple(pair for pair in act_pairs(acts) if draw.random() < chance)
+        modes = [((act,), (act,)) for act in range(acts)] * 4 + [((), (act,)) for act in range(acts)] + [((), ())]
+        things = list(range(draw.randint(2, max(2, steps))))
+        rows = [draw.choices(things, k=draw.randint(2, steps)) if draw.randrange(3) else draw.sample(things, len(things))
+                for _ in range(draw.randint(2, holders))]
+        cases.append((rules, tuple(tuple((thing, draw.choice(modes)) for thing in row[:steps]) for row in rows), draw))
+    return cases
+
+
+def drawn_run(draw, courses, able):
+    """A run, grown by holders drawn from those that able tells behind it, for some steps or to its end."""
+    run = ()
+    while able(run) and draw.randrange(20):
+        run += (draw.choice(able(run)),)
+    return run

@@ -5,12 +5,21 @@ import itertools
 import random
 
 from holdmodes import errors
+from holdmodes.desks import Desk
+from holdmodes.yards import Yard
 
 R = (3, ((0, 0), (2, 2)))
 S = ((0,), (0,))
 X = ((1,), (1,))
 I = ((), (1,))
 T = (None, 0, 0, 1)
+# The errors with the names of their fields.
+HOLD_ERRORS = {
+    "BadMode": ("mode",), "BadText": ("number",), "BadYard": ("word", "error"), "Barred": ("thing", "other"),
+    "Full": (), "NothingToUndo": (),
+}
+LOOKUP_ERRORS = {"NoAct": ("act",), "NoHold": ("holder",), "NoHolder": ("holder",), "NoThing": ("thing",)}
+FIELDS = HOLD_ERRORS | LOOKUP_ERRORS
 
 
 def act_pairs(acts):
@@ -58,9 +67,18 @@ def may_beside(rules, act, other):
     return (act, other) in rules[1] or (other, act) in rules[1]
 
 
+def held_yard():
+    """A yard in which two holders have five holds."""
+    yard = Yard(R, T)
+    yard.ask(0, 3, 1)
+    yard.ask(1, 2, 1)
+    return yard
+
+
 def package_objects():
     """Objects of classes of the package."""
     return [
+        Yard(R, T), held_yard(), Desk(held_yard()),
         errors.HoldError(), errors.BadMode(S), errors.BadText(0), errors.BadYard("rules", "acts"),
         errors.Barred(0, 1), errors.Full(), errors.NothingToUndo(), errors.NoAct(6),
         errors.NoHold(0), errors.NoHolder(4), errors.NoThing(12),

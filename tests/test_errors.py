@@ -3,14 +3,7 @@
 import unittest
 
 from holdmodes import errors
-from tests.samples import odd_values
-
-HOLD_ERRORS = {
-    "BadMode": ("mode",), "BadText": ("number",), "BadYard": ("word", "error"), "Barred": ("thing", "other"),
-    "Full": (), "NothingToUndo": (),
-}
-LOOKUP_ERRORS = {"NoAct": ("act",), "NoHold": ("holder",), "NoHolder": ("holder",), "NoThing": ("thing",)}
-FIELDS = HOLD_ERRORS | LOOKUP_ERRORS
+from tests.samples import FIELDS, HOLD_ERRORS, LOOKUP_ERRORS, odd_values
 
 
 def made(name, values):

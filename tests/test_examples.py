@@ -14,7 +14,7 @@ class Examples(unittest.TestCase):
         names = {"R": R, "S": S, "X": X, "I": I, "T": T}
         found = doctest.testfile(str(path), module_relative=False, globs=names, encoding="utf-8")
         self.assertEqual(0, found.failed)
-        self.assertEqual(18, found.attempted)
+        self.assertEqual(31, found.attempted)
 
     def test_what_they_use(self):
         self.assertEqual(((3, ((0, 0), (2, 2))), (None, 0, 0, 1)), (R, T))

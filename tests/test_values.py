@@ -4,18 +4,26 @@ import copy
 import random
 import unittest
 
+from holdmodes.courses import are_courses, is_run, is_straight, straightened, stuck, waits
+from holdmodes.desks import Desk
+from holdmodes.errors import BadMode, BadText, BadYard, NoAct, NoHolder, NoThing
 from holdmodes.holds import are_holds, around, clash, fault, is_meeting, may, meeting, tree_error
 from holdmodes.modes import is_mode
 from holdmodes.plans import gathered, go_beside, is_gathered, is_plan, least_holds, meet, spare
 from holdmodes.raising import are_raises, is_standoff, standoff, unjoined, ups
 from holdmodes.rules import rules_error
 from holdmodes.tables import alike, fewest, full, groups, kinds, lost, serves, table, table_error
-from tests.drawn import fair_holds, raise_cases, tree_cases
-from tests.samples import I, R, S, T, X, drawn_holds, drawn_mode, drawn_plan, nested, odd_values, package_objects
+from holdmodes.texts import mode_text, read_mode, read_rules, read_tree, rules_text, tree_text
+from holdmodes.yards import Yard
+from tests.drawn import fair_holds, raise_cases, tangled_cases, tree_cases
+from tests.samples import (
+    FIELDS, I, R, S, T, X, drawn_holds, drawn_mode, drawn_plan, drawn_tree, held_yard, nested, odd_values, package_objects,
+)
 
 MODES = (S, X, I, ((0, 1), (0, 1)))
 RAISES = ((0, 3), (2, 1))
 PLAN = ((2, 0), (3, 0))
+COURSES = (((0, S), (1, X)), ((1, S), (0, X)))
 # Each function with an argument called value, what it is passed ahead of it, and values that are as they must be.
 ASKED = (
     (rules_error, (), (R,)),
@@ -29,6 +37,8 @@ ASKED = (
     (is_standoff, (R, MODES, RAISES), ((0, 0), (1, 1), (0, 0, 0))),
     (is_plan, (R, T), (PLAN, ((0, 0),))),
     (is_gathered, (R, T, PLAN, 3), (gathered(T, PLAN, 3),)),
+    (are_courses, (R,), (COURSES, straightened(COURSES))),
+    (is_run, (R, COURSES), ((0, 1), (0, 0, 1, 1))),
 )
 
 
@@ -77,6 +87,16 @@ def all_calls():
             (serves, (rules, modes, modes)), (fewest, (rules, modes)), (lost, (rules, modes, (0,) * len(modes))),
             (groups, (rules, modes, 2)), (ups, (modes, 0, modes[-1])), (unjoined, (modes,)), (are_raises, (modes, raises)),
             (standoff, (rules, modes, raises)), (is_standoff, (rules, modes, raises, standoff(rules, modes, raises))),
+            (mode_text, (modes[0],)), (rules_text, (rules,)), (read_mode, (rules, mode_text(modes[0]))),
+            (read_rules, (rules_text(rules),)),
+        ]
+    for rules, courses, draw in tangled_cases(1004, 36, 3, 4):
+        run = stuck(rules, courses) or ()
+        tree = drawn_tree(draw, draw.randint(1, 12))
+        calls += [
+            (are_courses, (rules, courses)), (is_run, (rules, courses, run)), (is_run, (rules, courses, run + (0, 0))),
+            (waits, (rules, courses, run)), (stuck, (rules, courses)), (is_straight, (courses,)), (straightened, (courses,)),
+            (tree_text, (tree,)), (read_tree, (tree_text(tree),)),
         ]
     return calls
 
@@ -130,6 +150,69 @@ class AnyValue(unittest.TestCase):
                     self.assertEqual(shown(before), shown(other), function.__name__)
 
 
+class AnyValueOfMethods(unittest.TestCase):
+    """What accepts any value and raises errors that tell of it: Yard, Desk and the readers of texts."""
+
+    def calls(self, value):
+        """Calls with the value at each argument, and what they raise; nothing is raised by the last ones."""
+        yard, desk = held_yard(), Desk(held_yard())
+        return (
+            (Yard, (value, T), BadYard), (Yard, (R, value), BadYard), (Yard, (value, value), BadYard),
+            (yard.ask, (value, 0, 0), NoHolder), (yard.ask, (0, value, 0), NoThing), (yard.ask, (0, 0, value), NoAct),
+            (yard.take, (value, 0, S), NoHolder), (yard.take, (0, value, S), NoThing), (yard.take, (0, 0, value), BadMode),
+            (yard.leave, (value,), NoHolder), (yard.may, (value, 0), NoHolder), (yard.may, (0, value), NoThing),
+            (yard.could, (value, 0, 0), NoHolder), (yard.could, (0, value, 0), NoThing), (yard.could, (0, 0, value), NoAct),
+            (lambda thing: yard[thing], (value,), NoThing), (read_mode, (R, value), BadText), (read_rules, (value,), BadText),
+            (read_tree, (value,), BadText), (desk.say, (value,), None), (lambda other: (yard == other, yard != other), (value,), None),
+        )
+
+    def check(self, value):
+        before = shown(value)
+        for function, given, error in self.calls(value):
+            if error is None:
+                function(*given)
+            else:
+                with self.assertRaises(error) as caught:
+                    function(*given)
+                self.assertIs(error, type(caught.exception))
+                fields = [getattr(caught.exception, name) for name in FIELDS[error.__name__]]
+                if error in (NoHolder, NoThing, NoAct, BadMode):
+                    self.assertIs(value, fields[0])
+                else:
+                    self.assertTrue(is_plain(tuple(fields)))
+            self.assertEqual(before, shown(value))
+
+    def test_values_of_all_kinds_stay_as_they_are(self):
+        for value in odd_values() + [listed(R), listed(T), listed(S), [S], {0: S}, {"mode": [S]}, [[0]], ([0], [0]), {}, "0/1"]:
+            self.check(value)
+
+    def test_values_that_were_refused_can_be_changed_by_their_owner(self):
+        rows = [[0], [0]]
+        yard = held_yard()
+        with self.assertRaises(BadMode) as caught:
+            yard.take(0, 0, rows)
+        rows.append([1])
+        self.assertIs(rows, caught.exception.mode)
+        self.assertEqual(held_yard(), yard)
+
+    def test_a_function_may_be_of_any_kind_with_one_argument(self):
+        class Counting:
+            def __init__(self):
+                self.seen = []
+
+            def __call__(self, yard):
+                self.seen.append(yard.version)
+                return self
+
+            def method(self, yard):
+                return self(yard)
+
+        counting = Counting()
+        for function in (counting, counting.method, lambda yard: counting(yard)):
+            self.assertIs(counting, held_yard().tried(function))
+        self.assertEqual([2, 2, 2], counting.seen)
+
+
 class Calls(unittest.TestCase):
 
     def test_what_is_returned_is_made_of_tuples(self):
@@ -138,7 +221,8 @@ class Calls(unittest.TestCase):
             self.assertTrue(is_plain(found), (function.__name__, told, found))
 
     def test_what_tells_whether_returns_true_or_false(self):
-        asked = {is_mode, are_holds, is_meeting, alike, serves, are_raises, is_standoff, is_plan, go_beside, is_gathered}
+        asked = {is_mode, are_holds, is_meeting, alike, serves, are_raises, is_standoff, is_plan, go_beside, is_gathered,
+                 are_courses, is_run, is_straight}
         for function, told in all_calls():
             self.assertIs(function in asked, type(function(*told)) is bool, function.__name__)
 

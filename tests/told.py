@@ -1,6 +1,7 @@
 """What the document says, word by word and without the package: the tests hold
 the package against it. Where an argument is called value, it may be any value."""
 
+import functools
 import itertools
 
 from tests.samples import all_modes, may_beside
@@ -21,6 +22,19 @@ def told_ascends(row):
 
 # Acts and modes
 
+def told_rules_error(value):
+    if not told_row(value, 2):
+        return "rules"
+    acts, beside = value
+    if not told_number(acts, 1, 6):
+        return "acts"
+    if type(beside) is not tuple or not all(told_row(pair, 2) for pair in beside):
+        return "beside"
+    if not all(told_number(j, 0, acts - 1) and told_number(i, 0, j) for i, j in beside):
+        return "beside"
+    return None if told_ascends(beside) else "beside"
+
+
 def told_lot(rules, value):
     return type(value) is tuple and all(told_number(act, 0, rules[0] - 1) for act in value) and told_ascends(value)
 
@@ -31,6 +45,7 @@ def told_is_mode(rules, value):
     return set(value[0]) <= set(value[1])
 
 
+@functools.lru_cache(maxsize=None)
 def told_goes(rules, one, other):
     """Whether the modes go, word by word."""
     for own, means in ((one[0], other[1]), (other[0], one[1])):
@@ -44,6 +59,7 @@ def told_covers(one, other):
     return set(other[0]) <= set(one[0]) and set(other[1]) <= set(one[1])
 
 
+@functools.lru_cache(maxsize=None)
 def told_joined(one, other):
     return tuple(tuple(act for act in range(6) if act in one[k] + other[k]) for k in (0, 1))
 
@@ -326,3 +342,100 @@ def told_is_gathered(rules, tree, plan, most, value):
     if not told_is_gathering(rules, tree, plan, value) or len(value) > most:
         return False
     return len(told_rights(tree, value)) == told_fewest_rights(tree, plan, most)
+
+
+# Taken one by one
+
+def told_are_courses(rules, value):
+    if type(value) is not tuple or not 1 <= len(value) <= 4:
+        return False
+    for course in value:
+        if type(course) is not tuple or not 1 <= len(course) <= 8 or not all(told_row(step, 2) for step in course):
+            return False
+        if not all(told_number(thing, 0, 11) and told_is_mode(rules, mode) for thing, mode in course):
+            return False
+    return True
+
+
+@functools.lru_cache(maxsize=None)
+def told_taken(steps, thing):
+    """What a holder has on the thing by the steps, None if it has nothing there."""
+    modes = [mode for place, mode in steps if place == thing]
+    whole = ((), ())
+    for mode in modes:
+        whole = told_joined(whole, mode)
+    return whole if modes else None
+
+
+def told_waits(rules, courses, run):
+    """The pairs (holder, other) of which the one waits for the other behind the run."""
+    done = [list(run).count(holder) for holder in range(len(courses))]
+    pairs = []
+    for holder, other in itertools.permutations(range(len(courses)), 2):
+        course, with_course = courses[holder], courses[other]
+        # Who has done all steps waits for nobody, and has nothing for which one could wait.
+        if done[holder] < len(course) and done[other] < len(with_course):
+            thing = course[done[holder]][0]
+            wish, held = told_taken(course[:done[holder] + 1], thing), told_taken(with_course[:done[other]], thing)
+            if held is not None and not told_goes(rules, wish, held):
+                pairs.append((holder, other))
+    return tuple(pairs)
+
+
+def told_next(rules, courses, run):
+    """The holders that can do their next step behind the run."""
+    waiting = {holder for holder, _ in told_waits(rules, courses, run)}
+    return [holder for holder, course in enumerate(courses)
+            if list(run).count(holder) < len(course) and holder not in waiting]
+
+
+def told_is_run(rules, courses, value):
+    if type(value) is not tuple or not all(told_number(holder, 0, len(courses) - 1) for holder in value):
+        return False
+    return all(value[at] in told_next(rules, courses, value[:at]) for at in range(len(value)))
+
+
+def told_is_stuck(rules, courses, run):
+    """Whether the courses are stuck behind the run."""
+    undone = {holder for holder, course in enumerate(courses) if run.count(holder) < len(course)}
+    return bool(undone) and undone == {holder for holder, _ in told_waits(rules, courses, run)}
+
+
+def told_all_runs(rules, courses):
+    """All runs, the shorter ones ahead, those of one length in their order."""
+    runs = found = [()]
+    while found:
+        found = [run + (holder,) for run in found for holder in told_next(rules, courses, run)]
+        runs = runs + found
+    return runs
+
+
+def told_stuck(rules, courses):
+    """The first one of the shortest runs behind which the courses are stuck, going through all runs."""
+    return next((run for run in told_all_runs(rules, courses) if told_is_stuck(rules, courses, run)), None)
+
+
+def told_stuck_by_states(rules, courses):
+    """The same, going through the states of steps done, each of which has one shortest way on to being stuck."""
+    ways = {}
+
+    def way(done):
+        if done not in ways:
+            run = tuple(holder for holder, many in enumerate(done) for _ in range(many))
+            # What the courses are behind a run hangs on how many steps each holder has done alone.
+            on = [(holder, way(done[:holder] + (done[holder] + 1,) + done[holder + 1:]))
+                  for holder in told_next(rules, courses, run)]
+            rows = [(holder,) + row for holder, row in on if row is not None]
+            ways[done] = () if told_is_stuck(rules, courses, run) else min(rows, key=lambda row: (len(row), row), default=None)
+        return ways[done]
+
+    return way((0,) * len(courses))
+
+
+def told_is_straight(courses):
+    return all(told_ascends([thing for thing, _ in course]) for course in courses)
+
+
+def told_straightened(courses):
+    return tuple(tuple((thing, told_taken(course, thing)) for thing in range(12) if told_taken(course, thing) is not None)
+                 for course in courses)
