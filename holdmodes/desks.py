@@ -17,6 +17,8 @@ FORMS = {
     "fair": (),
     "count": (),
 }
+# How many digits these have at most.
+DIGITS = {"number": 2, "act": 1}
 
 
 def ask_answer(yard, holder, thing, act):
@@ -134,8 +136,9 @@ def read_value(rules, kind, piece):
     if kind == "mode":
         return mode_or_none(rules, piece)
     digits = digits_of(piece)
-    most = 1 if kind == "act" else 2
-    return int(piece) if digits is not None and len(digits) <= most else None
+    if digits is None or len(digits) > DIGITS[kind]:
+        return None
+    return int(piece)
 
 
 def mode_or_none(rules, piece):

@@ -42,7 +42,9 @@ def first_bar(rules, tree, holds, holder):
     if found is None:
         return None
     _, thing, one, other = found
-    return thing, other if one == holder else one
+    if one == holder:
+        return thing, other
+    return thing, one
 
 
 def unlike_things(holds, others):

@@ -103,8 +103,10 @@ def tangled_cases(seed, many, holders=4, steps=8):
         rules = acts, tuple(pair for pair in act_pairs(acts) if draw.random() < chance)
         modes = [((act,), (act,)) for act in range(acts)] * 4 + [((), (act,)) for act in range(acts)] + [((), ())]
         things = list(range(draw.randint(2, max(2, steps))))
-        rows = [draw.choices(things, k=draw.randint(2, steps)) if draw.randrange(3) else draw.sample(things, len(things))
-                for _ in range(draw.randint(2, holders))]
+        rows = []
+        for _ in range(draw.randint(2, holders)):
+            row = draw.choices(things, k=draw.randint(2, steps))
+            rows.append(row if draw.randrange(3) else draw.sample(things, len(things)))
         cases.append((rules, tuple(tuple((thing, draw.choice(modes)) for thing in row[:steps]) for row in rows), draw))
     return cases
 

@@ -51,9 +51,9 @@ def odd_mode(draw, acts):
     """What is no mode of so many acts, though much like one."""
     own, means = drawn_mode(draw, acts)
     return draw.choice((
-        (own, means + (acts,)), ((acts,), (acts,)), ((0,), ()), (own, means, ()), (own,), [own, means], (list(own), means),
-        ((own, means),), ((), (0, 0)), ((), (True,)), ((False,), (False,)), ((), (-1,)), "0/0", None, 0, own, {own: means},
-        ((), None), ((), ("0",)), Yard(R, T),
+        (own, means + (acts,)), ((acts,), (acts,)), ((0,), ()), (own, means, ()), (own,), [own, means],
+        (list(own), means), ((own, means),), ((), (0, 0)), ((), (True,)), ((False,), (False,)), ((), (-1,)), "0/0", None,
+        0, own, {own: means}, ((), None), ((), ("0",)), Yard(R, T),
     ))
 
 

@@ -50,12 +50,13 @@ class AreCourses(unittest.TestCase):
                 self.check_told((acts, ()), (((0, S), (3, mode)),))
 
     def test_wrong_values(self):
-        for value in (None, 0, "", "0", (), [], {}, (()), ((),), ((), ()), S, (S,), ((S,),), (((0, S), ()),), (((0,),),),
-                      (((0, S, S),),), (((S, 0),),), ((0, S),), (((0, 0),),), (((None, S),),), ((("0", S),),), (((0, None),),),
-                      (((True, S),),), (((False, S),),), (([0, S],),), ([(0, S)],), [((0, S),)], (((0, list(S)),),),
-                      (((0, ((0,), ())),),), (((0, ((0, 0), (0,))),),), (((0, ((3,), (3,))),),), (((0, ((True,), (True,))),),),
-                      {0: ((0, S),)}, (((0, S),), None), (((0, S),), 0), ((((0, S),),),), (((-1, S),),), (((12, S),),),
-                      (((10 ** 39, S),),), (((0, S),), ((0, S), [0, S]))):
+        for value in (None, 0, "", "0", (), [], {}, (()), ((),), ((), ()), S, (S,), ((S,),), (((0, S), ()),),
+                      (((0,),),), (((0, S, S),),), (((S, 0),),), ((0, S),), (((0, 0),),), (((None, S),),),
+                      ((("0", S),),), (((0, None),),), (((True, S),),), (((False, S),),), (([0, S],),), ([(0, S)],),
+                      [((0, S),)], (((0, list(S)),),), (((0, ((0,), ())),),), (((0, ((0, 0), (0,))),),),
+                      (((0, ((3,), (3,))),),), (((0, ((True,), (True,))),),), {0: ((0, S),)}, (((0, S),), None),
+                      (((0, S),), 0), ((((0, S),),),), (((-1, S),),), (((12, S),),), (((10 ** 39, S),),),
+                      (((0, S),), ((0, S), [0, S]))):
             self.check(False, R, value)
 
     def test_courses_with_one_part_changed(self):
@@ -81,19 +82,19 @@ class IsRun(unittest.TestCase):
 
     def test_all_short_rows_of_small_courses(self):
         found = 0
-        for rules, courses, _ in tangled_cases(1611, 60, 3, 3) + course_cases(1611, 60, 3, 3, 2):
+        for rules, courses, _ in tangled_cases(1611, 30, 3, 3) + course_cases(1611, 48, 3, 3, 2):
             for many in range(5):
                 for row in itertools.product(range(len(courses)), repeat=many):
                     found += self.check(rules, courses, row)
         self.assertGreater(found, 300)
 
     def test_all_runs(self):
-        for rules, courses, _ in tangled_cases(1612, 20, 3, 3):
+        for rules, courses, _ in tangled_cases(1612, 10, 3, 3):
             for run in told_all_runs(rules, courses):
                 self.assertIs(True, is_run(rules, courses, run), (rules, courses, run))
 
     def test_drawn_runs_of_up_to_four_holders(self):
-        for rules, courses, draw in tangled_cases(1613, 60) + course_cases(1613, 20):
+        for rules, courses, draw in tangled_cases(1613, 30) + course_cases(1613, 12):
             run = drawn_run(draw, courses, lambda row: told_next(rules, courses, row))
             self.assertIs(True, is_run(rules, courses, run))
             for at in range(len(run) + 1):
@@ -133,7 +134,8 @@ class IsRun(unittest.TestCase):
                 self.assertIs(False, is_run(R, K, value), value)
 
     def test_wrong_values(self):
-        for value in (None, 0, 1, "", "01", [], [0, 0], {}, {0: 0}, ((),), ((0, 0, 1, 1),), (0, 0, [1]), True, False, ((0,), (1,))):
+        for value in (None, 0, 1, "", "01", [], [0, 0], {}, {0: 0}, ((),), ((0, 0, 1, 1),), (0, 0, [1]), True, False,
+                      ((0,), (1,))):
             self.assertIs(False, is_run(R, K, value), value)
 
     def test_runs_with_one_part_changed(self):
@@ -160,10 +162,10 @@ class Waits(unittest.TestCase):
 
     def test_all_runs_of_small_courses(self):
         found = 0
-        for rules, courses, _ in tangled_cases(1621, 20, 3, 3) + course_cases(1621, 30, 3, 3, 2):
+        for rules, courses, _ in tangled_cases(1621, 10, 3, 3) + course_cases(1621, 18, 3, 3, 2):
             for run in told_all_runs(rules, courses):
                 found += self.check(rules, courses, run)
-        self.assertGreater(found, 300)
+        self.assertGreater(found, 150)
 
     def test_all_courses_of_two_steps_of_one_act(self):
         modes = all_modes(1)
@@ -176,7 +178,7 @@ class Waits(unittest.TestCase):
 
     def test_drawn_runs_of_up_to_four_holders(self):
         found = []
-        for rules, courses, draw in tangled_cases(1622, 120) + course_cases(1622, 30):
+        for rules, courses, draw in tangled_cases(1622, 60) + course_cases(1622, 24):
             run = drawn_run(draw, courses, lambda row: told_next(rules, courses, row))
             for at in range(len(run) + 1):
                 found.append(self.check(rules, courses, run[:at]))
@@ -233,7 +235,8 @@ class Straight(unittest.TestCase):
         self.assertEqual(told_straightened(courses), rows, courses)
         self.assertIs(True, is_straight(rows))
         self.assertEqual(rows, straightened(rows))
-        self.assertTrue(all(type(part) is tuple for course in rows for step in course for part in (rows, course, step, step[1])))
+        parts = [part for course in rows for step in course for part in (rows, course, step, step[1])]
+        self.assertEqual({tuple}, {type(part) for part in parts})
         return found
 
     def test_the_examples(self):

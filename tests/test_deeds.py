@@ -8,7 +8,9 @@ from holdmodes import errors
 from holdmodes.yards import Yard
 from tests.drawn import tree_cases
 from tests.said import drawn_call, odd_mode, odd_number, small_mode
-from tests.samples import I, R, S, T, X, act_pairs, all_modes, all_rules, all_trees, held_yard, odd_values, with_odd_parts
+from tests.samples import (
+    I, R, S, T, X, act_pairs, all_modes, all_rules, all_trees, held_yard, odd_values, with_odd_parts,
+)
 from tests.test_yards import done_yard, shown_yard
 from tests.told import told_is_mode, told_number
 from tests.told_yards import ToldYard, outcome
@@ -74,7 +76,7 @@ class Drawn(CallCase):
         self.assertGreater(found.count("Full"), 500)
 
     def test_questions_between_deeds(self):
-        for rules, tree, draw in tree_cases(1203, 120, 5):
+        for rules, tree, draw in tree_cases(1203, 72, 5):
             yard, told = Yard(rules, tree), ToldYard(rules, tree)
             for _ in range(8):
                 self.check(yard, told, *drawn_call(draw, rules, tree, 40))
@@ -284,11 +286,11 @@ class Take(CallCase):
         for rules in all_rules(2):
             for mode, other in itertools.product(all_modes(2), repeat=2):
                 for thing, with_thing in itertools.product((0, 1), repeat=2):
-                    calls = (("take", (0, thing, mode)), ("take", (3, with_thing, other)), ("take", (0, 1 - thing, other)))
-                    self.check_calls(rules, (None, 0), calls)
+                    taken = (0, thing, mode), (3, with_thing, other), (0, 1 - thing, other)
+                    self.check_calls(rules, (None, 0), [("take", given) for given in taken])
 
     def test_barred_as_ask_is(self):
-        for rules, tree, draw in tree_cases(1211, 120):
+        for rules, tree, draw in tree_cases(1211, 72):
             yard = done_yard(rules, tree, [drawn_call(draw, rules, tree, 40) for _ in range(10)])
             for holder, thing, act in itertools.product(range(4), range(len(tree)), range(rules[0])):
                 bar = yard.could(holder, thing, act)
@@ -480,8 +482,9 @@ class Small(CallCase):
         draw = random.Random(1251)
         for rules in all_rules(1):
             for tree in all_trees(1) + all_trees(2) + all_trees(3):
-                calls = [(name, (holder, thing, given)) for holder, thing in itertools.product(range(4), range(len(tree)))
-                         for name, given in [("ask", 0)] + [("take", mode) for mode in all_modes(1)]]
+                deeds = [("ask", 0)] + [("take", mode) for mode in all_modes(1)]
+                calls = [(name, (holder, thing, given)) for holder in range(4) for thing in range(len(tree))
+                         for name, given in deeds]
                 calls += [("leave", (holder,)) for holder in range(4)] + [("undo", ())]
                 for _ in range(60):
                     self.check_calls(rules, tree, draw.choices(calls, k=12))

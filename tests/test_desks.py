@@ -65,8 +65,9 @@ class Answers(DeskCase):
 
     def test_the_example(self):
         self.check_says(
-            Desk(Yard(R, T)), ("ask 0 3 1", "ok 1"), ("could 1 1 0", "1 0"), ("ask 1 1 0", "no Barred"), ("on 0", "0:-/1"),
-            ("take 1 2 1/1", "ok 2"), ("last", "0 2"), ("may 0 3", "1"), ("leave 2", "no NoHold"), ("go", "what"))
+            Desk(Yard(R, T)), ("ask 0 3 1", "ok 1"), ("could 1 1 0", "1 0"), ("ask 1 1 0", "no Barred"),
+            ("on 0", "0:-/1"), ("take 1 2 1/1", "ok 2"), ("last", "0 2"), ("may 0 3", "1"), ("leave 2", "no NoHold"),
+            ("go", "what"))
 
     def test_each_line(self):
         told = ("ok 3", "ok 3", "ok 3", "ok 1", "1", "yes", "0:1/1", "0 2", "yes", "5 holds of 2 holders, version 2")
@@ -109,7 +110,8 @@ class Answers(DeskCase):
         self.check_says(Desk(yard), ("could 3 11 0", "11 2"), ("could 3 10 0", "10 2"), ("could 2 11 0", "yes"))
 
     def test_on(self):
-        self.check_says(Desk(held_yard()), ("on 0", "0:-/1 1:-/1"), ("on 1", "0:-/1"), ("on 2", "1:1/1"), ("on 3", "0:1/1"))
+        desk = Desk(held_yard())
+        self.check_says(desk, ("on 0", "0:-/1 1:-/1"), ("on 1", "0:-/1"), ("on 2", "1:1/1"), ("on 3", "0:1/1"))
         self.check_says(Desk(Yard(R, T)), ("on 0", "nothing"), ("on 3", "nothing"))
         yard = Yard((2, ((0, 0), (0, 1), (1, 1))), (None,))
         for holder, mode in ((3, ((0, 1), (0, 1))), (1, NONE), (0, ((1,), (0, 1)))):
@@ -132,12 +134,14 @@ class Answers(DeskCase):
         self.check_says(
             Desk(held_yard()), ("ask 4 0 0", "no NoHolder"), ("ask 0 4 0", "no NoThing"), ("ask 0 0 3", "no NoAct"),
             ("ask 2 0 0", "no Barred"), ("take 4 9 -/-", "no NoHolder"), ("take 3 9 -/-", "no NoThing"),
-            ("take 2 0 1/1", "no Barred"), ("leave 4", "no NoHolder"), ("leave 3", "no NoHold"), ("may 4 9", "no NoHolder"),
-            ("may 0 9", "no NoThing"), ("could 99 9 9", "no NoHolder"), ("could 0 99 9", "no NoThing"),
-            ("could 0 0 9", "no NoAct"), ("on 4", "no NoThing"), ("on 12", "no NoThing"), ("on 99", "no NoThing"))
+            ("take 2 0 1/1", "no Barred"), ("leave 4", "no NoHolder"), ("leave 3", "no NoHold"),
+            ("may 4 9", "no NoHolder"), ("may 0 9", "no NoThing"), ("could 99 9 9", "no NoHolder"),
+            ("could 0 99 9", "no NoThing"), ("could 0 0 9", "no NoAct"), ("on 4", "no NoThing"), ("on 12", "no NoThing"),
+            ("on 99", "no NoThing"))
         self.check_says(
             Desk(full_yard()), ("ask 4 9 9", "no Full"), ("take 4 9 -/-", "no Full"), ("leave 9", "no Full"),
-            ("could 0 0 5", "yes"), ("undo", "ok 24"), ("leave 3", "ok 25"), ("leave 3", "no Full"), ("take 0 0 9/9", "what"))
+            ("could 0 0 5", "yes"), ("undo", "ok 24"), ("leave 3", "ok 25"), ("leave 3", "no Full"),
+            ("take 0 0 9/9", "what"))
         self.check_says(Desk(Yard(R, T)), ("undo", "no NothingToUndo"), ("leave 0", "no NoHold"))
 
     def test_an_error_changes_nothing_at_the_yard(self):
@@ -158,11 +162,12 @@ class Answers(DeskCase):
                 answer = desk.say(line)
                 self.assertEqual(told.say(line), answer, (rules, tree, line))
                 self.assertEqual(told.history, desk.history)
-                self.assertEqual((told.yard.holds, told.yard.version, told.yard.last), (yard.holds, yard.version, yard.last))
+                shown = told.yard.holds, told.yard.version, told.yard.last
+                self.assertEqual(shown, (yard.holds, yard.version, yard.last))
                 self.assertIsNone(fault(rules, tree, yard.holds))
                 found.append(answer)
-        for answer in ("ok 1", "ok 5", "no Barred", "no NoHolder", "no NoThing", "no NoAct", "no NoHold", "no NothingToUndo",
-                       "yes", "nothing", "what", "-", "0 0", "0 1"):
+        for answer in ("ok 1", "ok 5", "no Barred", "no NoHolder", "no NoThing", "no NoAct", "no NoHold",
+                       "no NothingToUndo", "yes", "nothing", "what", "-", "0 0", "0 1"):
             self.assertGreater(found.count(answer), 5, answer)
 
 
@@ -186,10 +191,11 @@ class Forms(DeskCase):
                 self.check_line(f"{line} {other}")
 
     def test_noughts_ahead(self):
-        self.check_says(Desk(held_yard()), ("may 00 03", "1"), ("may 0 03", "1"), ("on 03", "0:1/1"), ("could 01 01 0", "1 0"),
-                        ("ask 00 03 1", "ok 3"), ("take 02 02 -/-", "ok 4"), ("leave 02", "ok 5"))
-        for line in ("may 000 3", "may 0 003", "on 003", "ask 0 3 01", "could 0 3 01", "leave 000", "take 0 3 00/00", "on 0x3",
-                     "could 1 1 00", "ask 0 3 12", "take 0 3 00/1"):
+        self.check_says(Desk(held_yard()), ("may 00 03", "1"), ("may 0 03", "1"), ("on 03", "0:1/1"),
+                        ("could 01 01 0", "1 0"), ("ask 00 03 1", "ok 3"), ("take 02 02 -/-", "ok 4"),
+                        ("leave 02", "ok 5"))
+        for line in ("may 000 3", "may 0 003", "on 003", "ask 0 3 01", "could 0 3 01", "leave 000", "take 0 3 00/00",
+                     "on 0x3", "could 1 1 00", "ask 0 3 12", "take 0 3 00/1"):
             self.check_says(Desk(held_yard()), (line, "what"))
 
     def test_numbers_in_two_digits(self):
@@ -207,7 +213,8 @@ class Forms(DeskCase):
 
     def test_line_feeds_are_signs_like_others(self):
         for line in LINES:
-            for text in (line + "\n", "\n" + line, line + " \n", "\n " + line, line.replace(" ", "\n"), line.replace(" ", " \n ")):
+            for text in (line + "\n", "\n" + line, line + " \n", "\n " + line, line.replace(" ", "\n"),
+                         line.replace(" ", " \n ")):
                 if text != line:
                     self.check_says(Desk(held_yard()), (text, "what"))
 
@@ -224,7 +231,8 @@ class Forms(DeskCase):
                                 (" ".join(pieces[:at] + [pieces[at]] + pieces[at:]), "what"))
 
     def test_modes_that_are_none_of_the_rules(self):
-        for text in ("0/1", "1/0", "3/3", "-/3", "0/10", "0", "-", "", "/", "0/0/0", "00/0", "-/00", "0-/0", "0/0\n", "a/b"):
+        for text in ("0/1", "1/0", "3/3", "-/3", "0/10", "0", "-", "", "/", "0/0/0", "00/0", "-/00", "0-/0", "0/0\n",
+                     "a/b"):
             for line in (f"take 0 3 {text}", f"take 9 9 {text}"):
                 self.check_says(Desk(held_yard()), (line, "what"))
                 self.check_line(line)
@@ -234,11 +242,12 @@ class Forms(DeskCase):
                             "1 holds of 1 holders, version 1"))
 
     def test_none_of_these(self):
-        for line in ("", " ", "    ", "go", "what", "ok 1", "no Barred", "tried", "holds", "version", "rules", "tree", "say count",
-                     "history", "len", "str", "undo 0", "undo undo", "last 0", "fair 1", "count 1", "count fair", "leave", "leave 0 0",
-                     "on", "on 0 0", "ask 0 3", "ask 0 3 1 1", "asks 0 3 1", "as 0 3 1", "ask-0-3-1", "ask 0 3 a", "ask a 3 1",
-                     "ask 0 -3 1", "ask +0 3 1", "ask 0 3. 1", "ask 0,3,1", "0 ask 3 1", "take 0 3", "take 0 0/0 3", "may 0",
-                     "could 0 3", "__init__", "undo;", "undo\n", "x" * 2000, " " * 2000, "on " + "0" * 1997):
+        for line in ("", " ", "    ", "go", "what", "ok 1", "no Barred", "tried", "holds", "version", "rules", "tree",
+                     "say count", "history", "len", "str", "undo 0", "undo undo", "last 0", "fair 1", "count 1",
+                     "count fair", "leave", "leave 0 0", "on", "on 0 0", "ask 0 3", "ask 0 3 1 1", "asks 0 3 1",
+                     "as 0 3 1", "ask-0-3-1", "ask 0 3 a", "ask a 3 1", "ask 0 -3 1", "ask +0 3 1", "ask 0 3. 1",
+                     "ask 0,3,1", "0 ask 3 1", "take 0 3", "take 0 0/0 3", "may 0", "could 0 3", "__init__", "undo;",
+                     "undo\n", "x" * 2000, " " * 2000, "on " + "0" * 1997):
             self.check_says(Desk(held_yard()), (line, "what"))
             self.check_line(line)
 
@@ -320,8 +329,10 @@ class Desks(DeskCase):
             before = shown_yard(yard)
             desk = Desk(yard)
             self.assertEqual((before, ()), (shown_yard(yard), desk.history))
-            rows = [" ".join(f"{holder}:{told_mode_text(mode)}" for holder, mode in yard[thing]) for thing in range(len(tree))]
-            self.check_says(desk, ("count", str(yard)), *[(f"on {thing}", row or "nothing") for thing, row in enumerate(rows)])
+            self.check_says(desk, ("count", str(yard)))
+            for thing in range(len(tree)):
+                row = " ".join(f"{holder}:{told_mode_text(mode)}" for holder, mode in yard[thing])
+                self.check_says(desk, (f"on {thing}", row or "nothing"))
 
     def test_drawn_lines_at_two_desks(self):
         draw = random.Random(1522)

@@ -54,20 +54,20 @@ class Stuck(unittest.TestCase):
 
     def test_state_by_state(self):
         found = []
-        for rules, courses, _ in tangled_cases(1704, 300) + course_cases(1714, 60, 4, 5):
+        for rules, courses, _ in tangled_cases(1704, 240) + course_cases(1714, 60, 4, 5):
             found.append(self.check_states(rules, courses))
-        self.assertGreater(min(found.count(None), len(found) - found.count(None)), 100)
-        self.assertGreater(len(set(found)), 100)
+        self.assertGreater(min(found.count(None), len(found) - found.count(None)), 80)
+        self.assertGreater(len(set(found)), 80)
 
     def test_four_holders_with_eight_steps_each(self):
         draw = random.Random(1705)
         found = []
-        for k in range(18):
+        for k in range(12):
             acts = k % 6 + 1
             rules = (acts, tuple(pair for pair in act_pairs(acts) if draw.random() < (0.5, 0.8, 0.95)[k % 3]))
             things = draw.randint(2, 12)
-            courses = tuple(tuple((draw.randrange(things), draw.choice((drawn_mode(draw, acts), NONE, NONE))) for _ in range(8))
-                            for _ in range(4))
+            steps = [(draw.randrange(things), draw.choice((drawn_mode(draw, acts), NONE, NONE))) for _ in range(32)]
+            courses = tuple(tuple(steps[at:at + 8]) for at in (0, 8, 16, 24))
             found.append(self.check_states(rules, courses))
         self.assertIn(None, found)
         self.assertGreater(max(len(run or ()) for run in found), 8)

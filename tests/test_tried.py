@@ -356,10 +356,9 @@ class Drawn(unittest.TestCase):
 
     def try_blindly(self, draw, yard):
         desk = Desk(yard)
-        try:
-            yard.tried(lambda tried: [desk.say(more_blanks(draw, line)) for line in ("ask 0 0 0", "leave 1", "undo")] + [1 // 0])
-        except ZeroDivisionError:
-            pass
+        lines = [more_blanks(draw, line) for line in ("ask 0 0 0", "leave 1", "undo")]
+        with self.assertRaises(ZeroDivisionError):
+            yard.tried(lambda tried: [desk.say(line) for line in lines] + [1 // 0])
 
 
 if __name__ == "__main__":

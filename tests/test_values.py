@@ -17,7 +17,8 @@ from holdmodes.texts import mode_text, read_mode, read_rules, read_tree, rules_t
 from holdmodes.yards import Yard
 from tests.drawn import fair_holds, raise_cases, tangled_cases, tree_cases
 from tests.samples import (
-    FIELDS, I, R, S, T, X, drawn_holds, drawn_mode, drawn_plan, drawn_tree, held_yard, nested, odd_values, package_objects,
+    FIELDS, I, R, S, T, X, drawn_holds, drawn_mode, drawn_plan, drawn_tree, held_yard, nested, odd_values,
+    package_objects,
 )
 
 MODES = (S, X, I, ((0, 1), (0, 1)))
@@ -159,11 +160,13 @@ class AnyValueOfMethods(unittest.TestCase):
         return (
             (Yard, (value, T), BadYard), (Yard, (R, value), BadYard), (Yard, (value, value), BadYard),
             (yard.ask, (value, 0, 0), NoHolder), (yard.ask, (0, value, 0), NoThing), (yard.ask, (0, 0, value), NoAct),
-            (yard.take, (value, 0, S), NoHolder), (yard.take, (0, value, S), NoThing), (yard.take, (0, 0, value), BadMode),
-            (yard.leave, (value,), NoHolder), (yard.may, (value, 0), NoHolder), (yard.may, (0, value), NoThing),
-            (yard.could, (value, 0, 0), NoHolder), (yard.could, (0, value, 0), NoThing), (yard.could, (0, 0, value), NoAct),
-            (lambda thing: yard[thing], (value,), NoThing), (read_mode, (R, value), BadText), (read_rules, (value,), BadText),
-            (read_tree, (value,), BadText), (desk.say, (value,), None), (lambda other: (yard == other, yard != other), (value,), None),
+            (yard.take, (value, 0, S), NoHolder), (yard.take, (0, value, S), NoThing),
+            (yard.take, (0, 0, value), BadMode), (yard.leave, (value,), NoHolder), (yard.may, (value, 0), NoHolder),
+            (yard.may, (0, value), NoThing), (yard.could, (value, 0, 0), NoHolder),
+            (yard.could, (0, value, 0), NoThing), (yard.could, (0, 0, value), NoAct),
+            (lambda thing: yard[thing], (value,), NoThing), (read_mode, (R, value), BadText),
+            (read_rules, (value,), BadText), (read_tree, (value,), BadText), (desk.say, (value,), None),
+            (lambda other: (yard == other, yard != other), (value,), None),
         )
 
     def check(self, value):
@@ -183,7 +186,8 @@ class AnyValueOfMethods(unittest.TestCase):
             self.assertEqual(before, shown(value))
 
     def test_values_of_all_kinds_stay_as_they_are(self):
-        for value in odd_values() + [listed(R), listed(T), listed(S), [S], {0: S}, {"mode": [S]}, [[0]], ([0], [0]), {}, "0/1"]:
+        for value in odd_values() + [listed(R), listed(T), listed(S), [S], {0: S}, {"mode": [S]}, [[0]], ([0], [0]),
+                                     {}, "0/1"]:
             self.check(value)
 
     def test_values_that_were_refused_can_be_changed_by_their_owner(self):

@@ -271,7 +271,8 @@ class Equal(unittest.TestCase):
 
     def test_values_of_all_kinds(self):
         for yard in (Yard(R, T), held_yard()):
-            for value in odd_values() + [R, T, yard.holds, (R, T, yard.holds), str(yard), len(yard), Desk(yard), [yard]]:
+            for value in odd_values() + [R, T, yard.holds, (R, T, yard.holds), str(yard), len(yard), Desk(yard),
+                                         [yard]]:
                 equal = isinstance(value, Yard) and len(value) == len(yard)
                 self.check(equal, yard, value)
 

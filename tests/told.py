@@ -426,7 +426,8 @@ def told_stuck_by_states(rules, courses):
             on = [(holder, way(done[:holder] + (done[holder] + 1,) + done[holder + 1:]))
                   for holder in told_next(rules, courses, run)]
             rows = [(holder,) + row for holder, row in on if row is not None]
-            ways[done] = () if told_is_stuck(rules, courses, run) else min(rows, key=lambda row: (len(row), row), default=None)
+            best = min(rows, key=lambda row: (len(row), row), default=None)
+            ways[done] = () if told_is_stuck(rules, courses, run) else best
         return ways[done]
 
     return way((0,) * len(courses))
@@ -437,5 +438,5 @@ def told_is_straight(courses):
 
 
 def told_straightened(courses):
-    return tuple(tuple((thing, told_taken(course, thing)) for thing in range(12) if told_taken(course, thing) is not None)
-                 for course in courses)
+    things = [sorted({thing for thing, _ in course}) for course in courses]
+    return tuple(tuple((thing, told_taken(course, thing)) for thing in row) for course, row in zip(courses, things))

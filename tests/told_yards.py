@@ -90,7 +90,8 @@ class ToldYard:
         return raises("Barred", *bar) if bar is not None else self.stand(self.kept + [modes])
 
     def ask(self, holder, thing, act):
-        return self.deed(self.wrong(holder=holder, thing=thing, act=act), (holder, thing, ((act,), (act,)), ((), (act,))))
+        wrong = self.wrong(holder=holder, thing=thing, act=act)
+        return self.deed(wrong, (holder, thing, ((act,), (act,)), ((), (act,))))
 
     def take(self, holder, thing, mode):
         wrong = self.wrong(holder=holder, thing=thing, mode=mode)
